@@ -21,3 +21,12 @@ func Records(l []api.Record) []api.Record {
 	}
 	return out
 }
+
+// Lists are copies of lists of records, likewise.
+func Lists(l [][]api.Record) [][]api.Record {
+	out := make([][]api.Record, len(l))
+	for i, records := range l {
+		out[i] = Records(records)
+	}
+	return out
+}

@@ -43,3 +43,20 @@ func TestRecords(t *testing.T) {
 		t.Errorf("the copies share something: %v, %v", l, c)
 	}
 }
+
+func TestLists(t *testing.T) {
+	if l := own.Lists(nil); len(l) != 0 {
+		t.Errorf("Lists(nil): %v", l)
+	}
+	l := [][]api.Record{{{Key: api.Key{1}, Data: "x"}}, nil, {{Key: api.Key{2}}, {Key: api.Key{3}}}}
+	c := own.Lists(l)
+	if len(c) != 3 || len(c[0]) != 1 || c[0][0].Key[0] != 1 || c[0][0].Data != "x" || len(c[1]) != 0 || len(c[2]) != 2 || c[2][1].Key[0] != 3 {
+		t.Fatalf("Lists(%v): %v", l, c)
+	}
+	c[0][0].Key[0] = 7
+	c[2][0] = api.Record{}
+	c[1] = nil
+	if l[0][0].Key[0] != 1 || l[2][0].Key[0] != 2 {
+		t.Errorf("the copies share something: %v, %v", l, c)
+	}
+}
